@@ -1,0 +1,1 @@
+"""Evenbend: worths over whole points that bend evenly, and their least points."""
