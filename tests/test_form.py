@@ -1,11 +1,41 @@
-"""Some of the rules of LANGUAGE.md that a test can see: L1, L2, L10, L14, L21."""
+"""Some of the rules of LANGUAGE.md that a test can see: L1 to L4, L6, L8, L10, L14, L15, L17, L20, L25."""
 
 import ast
+import builtins
 import pathlib
 import unittest
 
 PACKAGE = pathlib.Path(__file__).resolve().parent.parent / "evenbend"
 FILES = sorted(PACKAGE.rglob("*.py"))
+BUILTINS = """len range enumerate zip min max sum abs sorted reversed int str bool bytes list tuple dict set isinstance ord
+    repr any all divmod pow super Exception ValueError TypeError KeyError IndexError LookupError ZeroDivisionError
+    ArithmeticError OverflowError RuntimeError NotImplementedError AttributeError StopIteration""".split()
+METHODS = """append clear copy count endswith extend find get index insert isalnum isalpha isdigit islower isspace isupper
+    items join keys ljust lower lstrip partition pop remove replace reverse rfind rjust rpartition rsplit rstrip
+    setdefault split splitlines startswith strip update upper values zfill bit_length""".split()
+NEVER = """register mro elements open input law version_info with_traceback add_note type vars id dir eval exec compile
+    globals locals help os sys gc exit quit""".split()
+MODULE_LEVEL = (ast.ImportFrom, ast.FunctionDef, ast.ClassDef, ast.Assign)
+STATEMENTS = (ast.Global, ast.AsyncFunctionDef, ast.AsyncFor, ast.AsyncWith, ast.Await, ast.Import)
+
+
+def nodes_of(path):
+    return list(ast.walk(ast.parse(path.read_text())))
+
+
+def bound_names(nodes):
+    """The names that functions of the file give to parameters and variables."""
+    names = [node.id for node in nodes if isinstance(node, ast.Name) and isinstance(node.ctx, ast.Store)]
+    return names + [node.arg for node in nodes if isinstance(node, ast.arg)]
+
+
+def defined_names(nodes):
+    kinds = (ast.FunctionDef, ast.ClassDef)
+    return [node.name for node in nodes if isinstance(node, kinds)]
+
+
+def imported_names(nodes):
+    return [name.name for node in nodes if isinstance(node, ast.ImportFrom) for name in node.names]
 
 
 class FormTest(unittest.TestCase):
@@ -47,6 +77,54 @@ class FormTest(unittest.TestCase):
                 self.assertNotIsInstance(node, ast.Div)
                 if isinstance(node, ast.Constant):
                     self.assertNotIsInstance(node.value, float)
+
+    def test_statements(self):
+        for path in FILES:
+            tree = ast.parse(path.read_text())
+            for node in tree.body[1:]:
+                self.assertIsInstance(node, MODULE_LEVEL, path.name)
+            for node in ast.walk(tree):
+                self.assertNotIsInstance(node, STATEMENTS, path.name)
+                self.assertEqual(getattr(node, "decorator_list", []), [], path.name)
+
+    def test_only_listed_builtins_and_methods(self):
+        own = [name for path in FILES for name in defined_names(nodes_of(path))]
+        for path in FILES:
+            nodes = nodes_of(path)
+            known = BUILTINS + bound_names(nodes) + defined_names(nodes) + imported_names(nodes)
+            for node in nodes:
+                if isinstance(node, ast.Name):
+                    self.assertIn(node.id, known, path.name)
+                if isinstance(node, ast.Call) and isinstance(node.func, ast.Attribute):
+                    self.assertIn(node.func.attr, METHODS + own, path.name)
+
+    def test_names_mean_one_thing(self):
+        for path in FILES:
+            nodes = nodes_of(path)
+            classes = [node.name for node in nodes if isinstance(node, ast.ClassDef)]
+            taken = set(classes + imported_names(nodes) + dir(builtins) + NEVER)
+            self.assertEqual(taken & set(bound_names(nodes)), set(), path.name)
+            for name in bound_names(nodes) + defined_names(nodes):
+                self.assertNotIn(name, NEVER, path.name)
+                self.assertTrue(not name.startswith("__") or name == "__init__", name)
+
+    def test_is_stands_beside_none_true_and_false_alone(self):
+        for path in FILES:
+            for node in nodes_of(path):
+                if isinstance(node, ast.Compare) and isinstance(node.ops[0], (ast.Is, ast.IsNot)):
+                    self.assertIsInstance(node.comparators[0], ast.Constant, path.name)
+                    self.assertIn(node.comparators[0].value, (None, True, False), path.name)
+
+    def test_no_file_imports_one_that_imports_it(self):
+        imports = {}
+        for path in FILES:
+            froms = [node.module for node in nodes_of(path) if isinstance(node, ast.ImportFrom)]
+            imports[f"evenbend.{path.stem}"] = [name for name in froms if name.startswith("evenbend.")]
+        done = []
+        while len(done) < len(imports):
+            ready = [name for name in imports if name not in done and all(file in done for file in imports[name])]
+            self.assertTrue(ready, "files import from each other")
+            done += ready
 
 
 if __name__ == "__main__":
