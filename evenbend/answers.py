@@ -1,7 +1,7 @@
 """Answers, each of which can be checked against the hall alone."""
 
 from evenbend.demands import all_asked, hall_demands, is_ring
-from evenbend.points import is_point, is_set, reading, stepped
+from evenbend.points import borne, is_point, is_set, reading, stepped
 
 
 def worth_or_none(hall, point):
@@ -13,13 +13,10 @@ def worth_or_none(hall, point):
 
 def bears(part, reads, number):
     """Tell whether the number, times how much more or less is read, is never more than is gained."""
-    worth = part.worth_of(reads)
-    more = part.worth_of(reads + 1)
-    less = part.worth_of(reads - 1)
-    # Each part bends evenly: what holds one step away holds farther away, too.
-    if more is not None and number > more - worth:
+    least, greatest = borne(part, reads)
+    if least is not None and number < least:
         return False
-    return less is None or -number <= less - worth
+    return greatest is None or number <= greatest
 
 
 def sums_at_places(hall, numbers):

@@ -1,4 +1,4 @@
-"""Points: what is one, what a part reads of it, and its neighbours."""
+"""Points: what is one, what a part reads of it and bears there, and its neighbours."""
 
 from evenbend.checks import is_number_from
 
@@ -18,6 +18,20 @@ def reading(part, point):
     if len(places) == 1:
         return point[places[0]]
     return point[places[0]] - point[places[1]]
+
+
+def borne(part, reads):
+    """Tell the least and the greatest number that, times how much more or less is read, is never more than is gained.
+
+    Each is None where there is no such bound, since the part bars what is more, or less.
+    """
+    worth = part.worth_of(reads)
+    more = part.worth_of(reads + 1)
+    less = part.worth_of(reads - 1)
+    # Each part bends evenly: what holds one step away holds farther away, too.
+    least = None if less is None else worth - less
+    greatest = None if more is None else more - worth
+    return least, greatest
 
 
 def stepped(point, places, step):

@@ -1,8 +1,9 @@
-"""Some of the rules of LANGUAGE.md that a test can see: L1 to L4, L6, L8, L10, L14, L15, L17, L20, L25."""
+"""Some of the rules of LANGUAGE.md that a test can see: L1 to L4, L6, L8, L10, L12, L14 to L18, L20, L25 to L27."""
 
 import ast
 import builtins
 import pathlib
+import re
 import unittest
 
 PACKAGE = pathlib.Path(__file__).resolve().parent.parent / "evenbend"
@@ -12,9 +13,12 @@ BUILTINS = """len range enumerate zip min max sum abs sorted reversed int str bo
     ArithmeticError OverflowError RuntimeError NotImplementedError AttributeError StopIteration""".split()
 METHODS = """append clear copy count endswith extend find get index insert isalnum isalpha isdigit islower isspace isupper
     items join keys ljust lower lstrip partition pop remove replace reverse rfind rjust rpartition rsplit rstrip
-    setdefault split splitlines startswith strip update upper values zfill bit_length""".split()
+    setdefault split splitlines startswith strip update upper values zfill bit_length title capitalize swapcase casefold
+    center expandtabs removeprefix removesuffix rindex isascii isdecimal isnumeric istitle isidentifier isprintable""".split()
 NEVER = """register mro elements open input law version_info with_traceback add_note type vars id dir eval exec compile
     globals locals help os sys gc exit quit""".split()
+WORDS = """type typing typing_extensions enum Enum IntEnum StrEnum Flag IntFlag Generic Protocol ABC ABCMeta namedtuple
+    NamedTuple TypedDict TYPE_CHECKING abstractmethod""".split()
 MODULE_LEVEL = (ast.ImportFrom, ast.FunctionDef, ast.ClassDef, ast.Assign)
 STATEMENTS = (ast.Global, ast.AsyncFunctionDef, ast.AsyncFor, ast.AsyncWith, ast.Await, ast.Import)
 
@@ -26,6 +30,7 @@ def nodes_of(path):
 def bound_names(nodes):
     """The names that functions of the file give to parameters and variables."""
     names = [node.id for node in nodes if isinstance(node, ast.Name) and isinstance(node.ctx, ast.Store)]
+    names += [node.name for node in nodes if isinstance(node, (ast.MatchAs, ast.MatchStar)) and node.name is not None]
     return names + [node.arg for node in nodes if isinstance(node, ast.arg)]
 
 
@@ -114,6 +119,57 @@ class FormTest(unittest.TestCase):
                 if isinstance(node, ast.Compare) and isinstance(node.ops[0], (ast.Is, ast.IsNot)):
                     self.assertIsInstance(node.comparators[0], ast.Constant, path.name)
                     self.assertIn(node.comparators[0].value, (None, True, False), path.name)
+
+    def test_words_that_do_not_occur(self):
+        for path in FILES:
+            text = path.read_text()
+            self.assertNotIn("_wall", text, path.name)
+            self.assertNotIn("_WallAttr", text, path.name)
+            for word in re.findall(r"\w+", text):
+                self.assertNotIn(word, WORDS, path.name)
+
+    def test_strings(self):
+        for path in FILES:
+            text = path.read_text()
+            self.assertEqual(set(re.findall(r"\\.", text)) - {"\\n"}, set(), path.name)
+            for node in nodes_of(path):
+                if isinstance(node, ast.Constant) and isinstance(node.value, str):
+                    self.assertNotIn("%", node.value, path.name)
+                    self.assertNotIn("__", node.value, path.name)
+
+    def test_names_are_imported_from_the_file_that_defines_them(self):
+        for path in FILES:
+            for node in nodes_of(path):
+                if isinstance(node, ast.ImportFrom):
+                    self.assertEqual([name.asname for name in node.names], [None] * len(node.names))
+                    tree = ast.parse((PACKAGE.parent / (node.module.replace(".", "/") + ".py")).read_text())
+                    own = defined_names(tree.body)
+                    own += [node.targets[0].id for node in tree.body if isinstance(node, ast.Assign)]
+                    for name in node.names:
+                        self.assertIn(name.name, own, path.name)
+
+    def test_names_are_bound_once_at_module_level_and_imports_are_used(self):
+        for path in FILES:
+            nodes = nodes_of(path)
+            tree = ast.parse(path.read_text())
+            imports = imported_names(nodes)
+            bound = imports + defined_names(tree.body)
+            bound += [target.id for node in tree.body if isinstance(node, ast.Assign) for target in node.targets]
+            self.assertEqual(len(bound), len(set(bound)), path.name)
+            read = [node.id for node in nodes if isinstance(node, ast.Name) and isinstance(node.ctx, ast.Load)]
+            self.assertEqual(set(imports) - set(read), set(), path.name)
+
+    def test_no_name_is_a_method_and_an_attribute(self):
+        methods, attributes = [], []
+        for path in FILES:
+            for node in nodes_of(path):
+                if isinstance(node, ast.ClassDef):
+                    methods += defined_names(node.body)
+                if isinstance(node, ast.Attribute) and isinstance(node.ctx, ast.Store):
+                    attributes.append(node.attr)
+        self.assertEqual(set(methods) & set(attributes), set())
+        for value in (0, "", b"", [], (), {}, set()):
+            self.assertEqual(set(attributes) & set(dir(value)), set())
 
     def test_no_file_imports_one_that_imports_it(self):
         imports = {}
